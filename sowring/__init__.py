@@ -1,0 +1,1 @@
+"""Sowring: pits in a ring, sown round and round."""

@@ -1,0 +1,147 @@
+"""Points 1 and 2: what is handed in stays, what is told is the asker's own, and answers stay the same."""
+
+import copy
+import unittest
+
+from samples import MOST, NO_BOARDS
+from sowring.counting import board_at, board_count, next_board, number_of, ring_count
+from sowring.errors import SowError
+from sowring.ring import gone_on, sown, taken_back
+from sowring.turning import least_turn, own_turn, turned
+
+QUESTIONS = [
+    (sown, ([2, 0, 1], 0)),
+    (sown, ([MOST, 0], 0)),
+    (sown, ([5, 0], 0)),
+    (taken_back, ([2, 0, 1], 0)),
+    (taken_back, ([1, 1, 1], 0)),
+    (gone_on, ([2, 0, 1], 0, 0)),
+    (gone_on, ([2, 0, 1], 0, 1)),
+    (gone_on, ([2, 0, 1], 0, 3)),
+    (gone_on, ([2, 0, 1], 0, -1)),
+    (gone_on, ([2, 0, 1], 0, -3)),
+    (gone_on, ([7, 3, 0, 2, 9], 4, 1000)),
+    (gone_on, ([7, 3, 0, 2, 9], 4, -1000)),
+    (board_count, (3, 4)),
+    (ring_count, (3, 4)),
+    (board_at, (3, 4, 0)),
+    (board_at, (3, 4, 14)),
+    (board_at, (2, 0, 0)),
+    (number_of, ([2, 0, 1],)),
+    (next_board, ([0, 0, 3],)),
+    (next_board, ([2, 1, 0],)),
+    (next_board, ([3, 0, 0],)),
+    (turned, ([2, 0, 1], 0)),
+    (turned, ([2, 0, 1], 1)),
+    (turned, ([2, 0, 1], -6)),
+    (turned, ([2, 2], 1)),
+    (least_turn, ([2, 0, 1],)),
+    (least_turn, ([0, 1, 2],)),
+    (least_turn, ([2, 2],)),
+    (own_turn, ([2, 0, 1],)),
+    (own_turn, ([2, 2],)),
+]
+
+REFUSED = [
+    (sown, ([2, 0, 1], 1)),
+    (sown, ([2, 0, 1], 3)),
+    (taken_back, ([2, 0, 1], 1)),
+    (taken_back, ([2, 0, 1], 3)),
+    (gone_on, ([2, 0, 1], 0, 1001)),
+    (gone_on, ([2, 0, 1], 1, 1)),
+]
+
+
+def lists_in(value):
+    if isinstance(value, list):
+        return [value] + [found for part in value for found in lists_in(part)]
+    if isinstance(value, tuple):
+        return [found for part in value for found in lists_in(part)]
+    return []
+
+
+class OwnListsTest(unittest.TestCase):
+    def test_what_is_handed_in_stays_as_it_was(self):
+        for function, asked in QUESTIONS:
+            with self.subTest(function=function.__name__, asked=asked):
+                handed = copy.deepcopy(asked)
+                function(*handed)
+                self.assertEqual(handed, asked)
+
+    def test_what_is_handed_in_and_refused_stays_as_it_was(self):
+        bad = [(function, (board, 0)) for function in (sown, taken_back) for board in NO_BOARDS]
+        bad += [(function, (board,)) for function in (number_of, next_board, least_turn) for board in NO_BOARDS]
+        for function, asked in REFUSED + bad:
+            handed = copy.deepcopy(asked)
+            with self.assertRaises(SowError):
+                function(*handed)
+            self.assertEqual(handed, asked)
+
+    def test_no_list_that_is_told_is_one_that_was_handed_in(self):
+        for function, asked in QUESTIONS:
+            with self.subTest(function=function.__name__, asked=asked):
+                handed = copy.deepcopy(asked)
+                for told in lists_in(function(*handed)):
+                    for given in lists_in(handed):
+                        self.assertIsNot(told, given)
+
+    def test_no_two_lists_that_are_told_are_one(self):
+        for function, asked in QUESTIONS:
+            with self.subTest(function=function.__name__, asked=asked):
+                told = lists_in(function(*asked)) + lists_in(function(*asked))
+                self.assertEqual(len({id(found) for found in told}), len(told))
+
+    def test_changing_what_was_told_changes_nothing_told_later(self):
+        for function, asked in QUESTIONS:
+            with self.subTest(function=function.__name__, asked=asked):
+                handed = copy.deepcopy(asked)
+                first = function(*handed)
+                kept = copy.deepcopy(first)
+                for found in lists_in(first):
+                    found[:] = [99] * 30
+                self.assertEqual(handed, asked)
+                self.assertEqual(function(*handed), kept)
+
+    def test_changing_what_was_handed_in_changes_nothing_that_was_told(self):
+        for function, asked in QUESTIONS:
+            with self.subTest(function=function.__name__, asked=asked):
+                handed = copy.deepcopy(asked)
+                first = function(*handed)
+                kept = copy.deepcopy(first)
+                for given in lists_in(handed):
+                    given[:] = [99] * 30
+                self.assertEqual(first, kept)
+                self.assertEqual(function(*copy.deepcopy(asked)), kept)
+
+    def test_a_board_is_read_anew_each_time(self):
+        board = [2, 0, 1]
+        sown(board, 0)
+        number_of(board)
+        least_turn(board)
+        board[0] = 4
+        self.assertEqual(sown(board, 0), ([1, 2, 2], 1))
+        self.assertEqual(number_of(board), 18)
+        self.assertEqual(least_turn(board), ([0, 1, 4], 2))
+
+    def test_the_same_question_has_the_same_answer_in_any_order(self):
+        answers = [function(*asked) for function, asked in QUESTIONS]
+        again = [function(*asked) for function, asked in reversed(QUESTIONS)]
+        self.assertEqual(answers, again[::-1])
+
+    def test_what_was_told_may_be_handed_in_again(self):
+        board, last = sown([2, 0, 1], 0)
+        self.assertEqual(gone_on(board, last, -1), ([2, 0, 1], 0))
+        self.assertEqual(number_of(board_at(24, MOST, board_count(24, MOST) - 5)), board_count(24, MOST) - 5)
+
+    def test_numbers_told_are_whole_numbers(self):
+        for function, asked in QUESTIONS:
+            answer = function(*asked)
+            told = [number for found in lists_in(answer) for number in found]
+            told += [part for part in answer if not isinstance(part, list)] if isinstance(answer, tuple) else []
+            told += [] if answer is None or isinstance(answer, (list, tuple)) else [answer]
+            for number in told:
+                self.assertIs(type(number), int)
+
+
+if __name__ == "__main__":
+    unittest.main()
