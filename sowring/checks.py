@@ -1,6 +1,6 @@
 """What the modules ask of the things handed in, and refuse where it does not hold."""
 
-from sowring.errors import BadBoard, BadCount, BadPit, NoSeeds
+from sowring.errors import BadBoard, BadCount, BadPit, BadPits, NoSeeds, Unlike
 
 FEWEST_PITS = 2
 MOST_PITS = 24
@@ -19,12 +19,14 @@ def is_whole_from(value, least):
     return is_whole(value) and value >= least
 
 
+def is_list_from_nought(values):
+    return isinstance(values, list) and all([is_whole_from(value, 0) for value in values])
+
+
 def is_board(board):
-    if not isinstance(board, list):
+    if not is_list_from_nought(board):
         return False
     if len(board) < FEWEST_PITS or len(board) > MOST_PITS:
-        return False
-    if not all([is_whole_from(seeds, 0) for seeds in board]):
         return False
     return sum(board) <= most_seeds()
 
@@ -34,8 +36,12 @@ def check_board(board):
         raise BadBoard("this is no board")
 
 
+def is_pit(board, pit):
+    return is_whole_from(pit, 0) and pit < len(board)
+
+
 def check_pit(board, pit):
-    if not is_whole_from(pit, 0) or pit >= len(board):
+    if not is_pit(board, pit):
         raise BadPit("the board has no such pit")
 
 
@@ -44,6 +50,24 @@ def check_standing(board, pit):
     check_pit(board, pit)
     if board[pit] == 0:
         raise NoSeeds("the pit holds no seeds")
+
+
+def check_alike(board, other):
+    if len(board) != len(other) or sum(board) != sum(other):
+        raise Unlike("the boards have other pits or seeds")
+
+
+def is_rising(numbers):
+    return all([numbers[place] < numbers[place + 1] for place in range(len(numbers) - 1)])
+
+
+def check_barred(board, barred):
+    if not isinstance(barred, list) or not all([is_pit(board, pit) for pit in barred]):
+        raise BadPits("these are no pits of the board")
+    if not is_rising(barred):
+        raise BadPits("the barred pits do not rise")
+    if len(barred) == 0 or len(barred) == len(board):
+        raise BadPits("no pit is barred, or all are")
 
 
 def check_count(number, least, most):

@@ -1,8 +1,16 @@
 """What several test files use: boards small and great, lists that are no boards, and slow ways to the answers."""
 
+import copy
 import itertools
 
 MOST = 10 ** 60
+
+BAD_SIZES = [
+    (1, 5), (0, 5), (-1, 5), (-24, 5), (25, 5), (26, 5), (1, 0), (25, 0), (10 ** 69, 5), (-(10 ** 69), 5),
+    (2, -1), (24, -1), (3, MOST + 1), (24, MOST + 1), (2, 10 ** 69), (2, -(10 ** 69)), (1, -1), (25, MOST + 1),
+]
+
+GREAT_SIZES = [(2, MOST), (3, MOST), (5, MOST), (12, 10 ** 31 + 7), (23, MOST - 1), (24, MOST), (24, 24 * 10 ** 50)]
 
 NO_BOARDS = [
     [],
@@ -40,6 +48,59 @@ GREAT_BOARDS = [
     [10 ** 30 * (place % 3) + place % 5 for place in range(24)],
     [3 * 10 ** 40, 10 ** 59 + 1, 10 ** 59, 17, 2 * 10 ** 40],
 ]
+
+
+def assert_refused(case, kind, function, *asked):
+    """The refusal itself, for what else it is to hold."""
+    handed = copy.deepcopy(asked)
+    with case.subTest(function=function.__name__, asked=asked):
+        with case.assertRaises(kind) as caught:
+            function(*handed)
+        case.assertIs(type(caught.exception), kind)
+        case.assertEqual(caught.exception.called(), kind.__name__)
+        case.assertEqual(handed, asked)
+        return caught.exception
+
+
+def no_pits(board):
+    return [-1, -2, -len(board), len(board), len(board) + 1, 10 ** 69, -(10 ** 69)]
+
+
+def no_barred_pits(board):
+    """Lists that are no barred pits of a board of three pits or more."""
+    last = len(board) - 1
+    return [
+        [], list(range(len(board))), [1, 0], [last, 0], [0, 0], [1, 1], [0, 1, 1], [0, 2, 1], [-1], [-1, 0],
+        [len(board)], [0, len(board)], [10 ** 69], [-(10 ** 69)], [0, -1], [len(board), 0],
+        list(range(len(board))) + [last], list(range(last, 0, -1)),
+    ]
+
+
+def barred_choices(pits):
+    """All lists of one pit or more, but not of all."""
+    choices = []
+    for count in range(1, pits):
+        choices += [list(choice) for choice in itertools.combinations(range(pits), count)]
+    return choices
+
+
+def sowings_seed_by_seed(board, barred=()):
+    """The boards to which one sowing leads, by their pits."""
+    free = [pit for pit in range(len(board)) if board[pit] > 0 and pit not in barred]
+    return {pit: sown_seed_by_seed(board, pit)[0] for pit in free}
+
+
+def reached_seed_by_seed(board, barred=()):
+    """All boards that the board leads to by sowings, with the fewest sowings that lead to each."""
+    fewest = {tuple(board): 0}
+    waiting = [board]
+    while waiting:
+        now = waiting.pop(0)
+        for other in sowings_seed_by_seed(now, barred).values():
+            if tuple(other) not in fewest:
+                fewest[tuple(other)] = fewest[tuple(now)] + 1
+                waiting.append(other)
+    return fewest
 
 
 def all_boards(pits, seeds):

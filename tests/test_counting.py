@@ -3,16 +3,9 @@
 import math
 import unittest
 
-from samples import GREAT_BOARDS, MOST, NO_BOARDS, all_boards, all_turns, small_boards
+from samples import BAD_SIZES, GREAT_BOARDS, GREAT_SIZES, MOST, NO_BOARDS, all_boards, all_turns, small_boards
 from sowring.counting import board_at, board_count, next_board, number_of, ring_count
 from sowring.errors import BadBoard, BadCount
-
-BAD_SIZES = [
-    (1, 5), (0, 5), (-1, 5), (-24, 5), (25, 5), (26, 5), (1, 0), (25, 0), (10 ** 69, 5), (-(10 ** 69), 5),
-    (2, -1), (24, -1), (3, MOST + 1), (24, MOST + 1), (2, 10 ** 69), (2, -(10 ** 69)), (1, -1), (25, MOST + 1),
-]
-
-GREAT_SIZES = [(2, MOST), (3, MOST), (5, MOST), (12, 10 ** 31 + 7), (23, MOST - 1), (24, MOST), (24, 24 * 10 ** 50)]
 
 
 def rings_by_comb(pits, seeds):

@@ -4,10 +4,14 @@ import copy
 import unittest
 
 from samples import MOST, NO_BOARDS
+from sowring.barred import come_to, ends_of, longest_play, way_or_bar
 from sowring.counting import board_at, board_count, next_board, number_of, ring_count
 from sowring.errors import SowError
+from sowring.least import least_way
 from sowring.ring import gone_on, sown, taken_back
+from sowring.rounds import all_rounds, one_ring_round, round_laps, round_of, standing_count
 from sowring.turning import least_turn, own_turn, turned
+from sowring.ways import gathered, walked, way_to
 
 QUESTIONS = [
     (sown, ([2, 0, 1], 0)),
@@ -40,6 +44,32 @@ QUESTIONS = [
     (least_turn, ([2, 2],)),
     (own_turn, ([2, 0, 1],)),
     (own_turn, ([2, 2],)),
+    (round_of, ([2, 0, 1], 0, 3)),
+    (round_of, ([7, 3, 0, 2, 9], 4, 20000)),
+    (round_laps, ([2, 0, 1], 0, 3)),
+    (one_ring_round, ([2, 0, 1], 0, 3)),
+    (standing_count, (3, 4)),
+    (all_rounds, (3, 4)),
+    (all_rounds, (3, 0)),
+    (walked, ([2, 0, 1], [])),
+    (walked, ([2, 0, 1], [("sow", 0), ("back", 2)])),
+    (walked, ([2, 0, 1], [("sow", 0), ("sow", 2)])),
+    (gathered, ([2, 0, 1], 0)),
+    (gathered, ([3, 0, 0], 0)),
+    (way_to, ([2, 0, 1], [0, 3, 0])),
+    (way_to, ([2, 0, 1], [2, 0, 1])),
+    (least_way, ([2, 0, 1], [0, 3, 0])),
+    (least_way, ([2, 0, 1], [2, 0, 1])),
+    (come_to, ([2, 0, 1], [1])),
+    (come_to, ([2, 0, 1], [0, 2])),
+    (ends_of, ([2, 0, 1], [1])),
+    (ends_of, ([2, 0, 1], [0, 2])),
+    (way_or_bar, ([2, 0, 1], [0, 3, 0], [1])),
+    (way_or_bar, ([2, 0, 1], [3, 0, 0], [1])),
+    (way_or_bar, ([2, 0, 1], [2, 0, 1], [1])),
+    (way_or_bar, ([2, 0, 1], [0, 3, 0], [0, 2])),
+    (longest_play, ([2, 0, 1], [1])),
+    (longest_play, ([2, 0, 1], [0, 2])),
 ]
 
 REFUSED = [
@@ -49,6 +79,14 @@ REFUSED = [
     (taken_back, ([2, 0, 1], 3)),
     (gone_on, ([2, 0, 1], 0, 1001)),
     (gone_on, ([2, 0, 1], 1, 1)),
+    (round_of, ([2, 0, 1], 0, 2)),
+    (one_ring_round, ([2, 0, 1], 0, 2)),
+    (walked, ([2, 0, 1], [("sow", 0), ("sow", 0)])),
+    (gathered, ([60, 0, 1], 0)),
+    (way_to, ([2, 0, 1], [2, 0, 2])),
+    (least_way, ([1000, 0], [0, 1000])),
+    (come_to, ([2, 0, 1], [1, 0])),
+    (way_or_bar, ([2, 0, 1], [2, 1], [1])),
 ]
 
 
@@ -58,6 +96,13 @@ def lists_in(value):
     if isinstance(value, tuple):
         return [found for part in value for found in lists_in(part)]
     return []
+
+
+def parts_of(value):
+    """All that is in an answer and is no list and no tuple."""
+    if type(value) in (list, tuple):
+        return [found for part in value for found in parts_of(part)]
+    return [value]
 
 
 class OwnListsTest(unittest.TestCase):
@@ -133,14 +178,11 @@ class OwnListsTest(unittest.TestCase):
         self.assertEqual(gone_on(board, last, -1), ([2, 0, 1], 0))
         self.assertEqual(number_of(board_at(24, MOST, board_count(24, MOST) - 5)), board_count(24, MOST) - 5)
 
-    def test_numbers_told_are_whole_numbers(self):
+    def test_what_is_told_is_made_of_the_kinds_told(self):
         for function, asked in QUESTIONS:
-            answer = function(*asked)
-            told = [number for found in lists_in(answer) for number in found]
-            told += [part for part in answer if not isinstance(part, list)] if isinstance(answer, tuple) else []
-            told += [] if answer is None or isinstance(answer, (list, tuple)) else [answer]
-            for number in told:
-                self.assertIs(type(number), int)
+            with self.subTest(function=function.__name__, asked=asked):
+                for part in parts_of(function(*asked)):
+                    self.assertIn(type(part), (int, str, type(None)))
 
 
 if __name__ == "__main__":
