@@ -1,9 +1,13 @@
 """What the modules ask of the things handed in, and refuse where it does not hold."""
 
-from sowring.errors import BadBoard, BadCount, BadPit, BadPits, NoSeeds, Unlike
+from sowring.errors import BadBoard, BadCount, BadLine, BadPit, BadPits, BadYard, NoSeeds, Unlike
 
 FEWEST_PITS = 2
 MOST_PITS = 24
+MOST_LINE_PITS = 100
+MOST_LINE_SEEDS = 100
+MOST_YARD_PITS = 200
+MOST_YARD_SEEDS = 10000
 
 
 def most_seeds():
@@ -68,6 +72,20 @@ def check_barred(board, barred):
         raise BadPits("the barred pits do not rise")
     if len(barred) == 0 or len(barred) == len(board):
         raise BadPits("no pit is barred, or all are")
+
+
+def check_line(line):
+    if not is_list_from_nought(line) or len(line) > MOST_LINE_PITS or sum(line) > MOST_LINE_SEEDS:
+        raise BadLine("this is no line")
+    if len(line) > 0 and (line[0] == 0 or line[-1] == 0):
+        raise BadLine("the line has a nought at an end")
+
+
+def check_yard(yard):
+    if not is_list_from_nought(yard) or len(yard) > MOST_YARD_PITS or sum(yard) > MOST_YARD_SEEDS:
+        raise BadYard("this is no yard")
+    if len(yard) > 0 and yard[-1] == 0:
+        raise BadYard("the yard ends with a nought")
 
 
 def check_count(number, least, most):

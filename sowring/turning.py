@@ -21,6 +21,10 @@ def least_turn(board):
 
 def own_turn(board):
     check_board(board)
+    return turn_to_itself(board)
+
+
+def turn_to_itself(board):
     k = 1
     while turn_by(board, k) != board:
         k += 1

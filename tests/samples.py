@@ -35,6 +35,25 @@ NO_BOARDS = [
     [2, False],
 ]
 
+# There are more than 1000 boards of as many pits and seeds.
+MANY_BOARDS = [[1000, 0], [44, 0, 0], [17, 0, 0, 0], [3] + [0] * 23, [MOST, 0], [MOST] + [0] * 23]
+
+# Boards with barred pits, among them sizes of which there are nearly or just 1000 boards.
+GREATER_PLAYS = [
+    ([0, 999], [0]),
+    ([999, 0], [1]),
+    ([998, 1], [1]),
+    ([0, 43, 0], [0]),
+    ([43, 0, 0], [1, 2]),
+    ([20, 3, 20], [1, 2]),
+    ([0, 0, 16, 0], [0]),
+    ([1, 5, 5, 5], [3]),
+    ([4] + [0] * 9, [5]),
+    ([4] + [0] * 9, [1, 2, 3, 4, 5, 6, 7, 8, 9]),
+    ([2] + [0] * 23, [23]),
+    ([1] + [0] * 22 + [1], [0, 5, 22]),
+]
+
 GREAT_BOARDS = [
     [MOST, 0],
     [0, MOST],
@@ -84,6 +103,14 @@ def barred_choices(pits):
     return choices
 
 
+def small_plays():
+    """Small boards, each with all lists of barred pits."""
+    plays = []
+    for pits, seeds in [(2, 0), (2, 6), (3, 0), (3, 4), (4, 3), (5, 2)]:
+        plays += [(board, barred) for board in all_boards(pits, seeds) for barred in barred_choices(pits)]
+    return plays
+
+
 def sowings_seed_by_seed(board, barred=()):
     """The boards to which one sowing leads, by their pits."""
     free = [pit for pit in range(len(board)) if board[pit] > 0 and pit not in barred]
@@ -101,6 +128,29 @@ def reached_seed_by_seed(board, barred=()):
                 fewest[tuple(other)] = fewest[tuple(now)] + 1
                 waiting.append(other)
     return fewest
+
+
+def marched_seed_by_seed(line):
+    if not line:
+        return []
+    others = list(line[1:])
+    for seed in range(line[0]):
+        if seed == len(others):
+            others.append(0)
+        others[seed] += 1
+    return others
+
+
+def marching_rows(seeds):
+    """All marching rows in the order of lists, by putting one seed more into all choices of pits."""
+    k = 0
+    while (k + 1) * (k + 2) // 2 <= seeds:
+        k += 1
+    rows = []
+    for chosen in itertools.combinations(range(k + 1), seeds - k * (k + 1) // 2):
+        row = [k - place + (1 if place in chosen else 0) for place in range(k + 1)]
+        rows.append(row if row[-1] > 0 else row[:-1])
+    return sorted(rows)
 
 
 def all_boards(pits, seeds):

@@ -3,38 +3,15 @@
 import unittest
 
 from samples import (
-    MOST, NO_BOARDS, all_boards, assert_refused, barred_choices, no_barred_pits, reached_seed_by_seed,
-    sown_seed_by_seed, sowings_seed_by_seed,
+    GREATER_PLAYS, MANY_BOARDS, MOST, NO_BOARDS, all_boards, assert_refused, no_barred_pits, reached_seed_by_seed,
+    small_plays, sown_seed_by_seed, sowings_seed_by_seed,
 )
 from sowring.barred import come_to, ends_of, longest_play, way_or_bar
 from sowring.errors import BadBoard, BadPits, TooMany, Unlike
 
-# Boards with barred pits, among them sizes of which there are nearly or just 1000 boards.
-GREATER = [
-    ([0, 999], [0]),
-    ([999, 0], [1]),
-    ([0, 43, 0], [0]),
-    ([43, 0, 0], [1, 2]),
-    ([0, 0, 16, 0], [0]),
-    ([1, 5, 5, 5], [3]),
-    ([4] + [0] * 9, [5]),
-    ([4] + [0] * 9, [1, 2, 3, 4, 5, 6, 7, 8, 9]),
-    ([2] + [0] * 23, [23]),
-    ([1] + [0] * 22 + [1], [0, 5, 22]),
-]
-
-TOO_MANY = [[1000, 0], [44, 0, 0], [17, 0, 0, 0], [3] + [0] * 23, [MOST, 0], [MOST] + [0] * 23]
-
 
 def way_to_itself(board, barred):
     return way_or_bar(board, board, barred)
-
-
-def small_plays():
-    plays = []
-    for pits, seeds in [(2, 0), (2, 6), (3, 0), (3, 4), (4, 3), (5, 2)]:
-        plays += [(board, barred) for board in all_boards(pits, seeds) for barred in barred_choices(pits)]
-    return plays
 
 
 def ranks_seed_by_seed(board, barred, known):
@@ -61,7 +38,7 @@ class ComeToTest(unittest.TestCase):
             self.assertEqual(ends, [found for found in boards if not sowings_seed_by_seed(found, barred)])
 
     def test_greater_plays(self):
-        for board, barred in GREATER:
+        for board, barred in GREATER_PLAYS:
             boards = [list(found) for found in sorted(reached_seed_by_seed(board, barred))]
             self.assertEqual(come_to(board, barred), boards)
             ends = [found for found in boards if sum([found[pit] for pit in barred]) == sum(board)]
@@ -74,7 +51,7 @@ class ComeToTest(unittest.TestCase):
             self.assertEqual(longest_play(board, barred), ([], [(board, 0)]))
 
     def test_one_barred_pit_leaves_one_end(self):
-        for board, barred in GREATER:
+        for board, barred in GREATER_PLAYS:
             if len(barred) == 1:
                 end = [0] * len(board)
                 end[barred[0]] = sum(board)
@@ -122,7 +99,7 @@ class WayOrBarTest(unittest.TestCase):
                 self.assert_right(board, other, barred, reached)
 
     def test_greater_plays(self):
-        for board, barred in GREATER:
+        for board, barred in GREATER_PLAYS:
             reached = reached_seed_by_seed(board, barred)
             for other in all_boards(len(board), sum(board))[::97] + [list(max(reached)), list(min(reached))]:
                 self.assert_right(board, other, barred, reached)
@@ -176,7 +153,7 @@ class LongestPlayTest(unittest.TestCase):
             self.assert_longest(board, barred)
 
     def test_greater_plays(self):
-        for board, barred in GREATER:
+        for board, barred in GREATER_PLAYS:
             self.assert_longest(board, barred)
 
     def test_ranks_are_pairs(self):
@@ -203,12 +180,12 @@ class RefusalsTest(unittest.TestCase):
     def test_just_1000_boards_and_more(self):
         self.assertEqual(come_to([999, 0], [0]), [[999, 0]])
         self.assertEqual(ends_of([0, 999], [0]), [[999, 0]])
-        for board in TOO_MANY:
+        for board in MANY_BOARDS:
             self.assert_all_refuse(TooMany, board, [0])
             self.assert_all_refuse(TooMany, board, [1])
 
     def test_barred_pits_go_ahead_of_too_many_boards(self):
-        for board in TOO_MANY:
+        for board in MANY_BOARDS:
             for barred in ([], [1, 0], [len(board)], list(range(len(board)))):
                 self.assert_all_refuse(BadPits, board, barred)
 

@@ -7,7 +7,13 @@ from samples import MOST, NO_BOARDS
 from sowring.barred import come_to, ends_of, longest_play, way_or_bar
 from sowring.counting import board_at, board_count, next_board, number_of, ring_count
 from sowring.errors import SowError
+from sowring.hands import side_by_side, who_wins, worths
+from sowring.home import brought_home, home_yard, less_by_one, more_by_one, sown_home
 from sowring.least import least_way
+from sowring.lines import ahead_of, comes_to, is_marching, line_behind, marched
+from sowring.marching import (
+    first_of_round, number_of_row, round_at, round_count, row_at, row_count, steps_of_round,
+)
 from sowring.ring import gone_on, sown, taken_back
 from sowring.rounds import all_rounds, one_ring_round, round_laps, round_of, standing_count
 from sowring.turning import least_turn, own_turn, turned
@@ -70,6 +76,51 @@ QUESTIONS = [
     (way_or_bar, ([2, 0, 1], [0, 3, 0], [0, 2])),
     (longest_play, ([2, 0, 1], [1])),
     (longest_play, ([2, 0, 1], [0, 2])),
+    (who_wins, ([2, 0, 1], [1])),
+    (who_wins, ([2, 0, 1], [0, 2])),
+    (who_wins, ([0, 3, 1, 1], [0])),
+    (worths, ([2, 0, 1], [1])),
+    (side_by_side, ([2, 0, 1], [1], [1, 1], [0])),
+    (side_by_side, ([2, 0, 1], [1], [2, 0, 1], [1])),
+    (marched, ([],)),
+    (marched, ([3, 0, 1],)),
+    (marched, ([2, 1],)),
+    (ahead_of, ([],)),
+    (ahead_of, ([2, 1, 1],)),
+    (ahead_of, ([2, 1],)),
+    (is_marching, ([2, 1, 1],)),
+    (is_marching, ([3],)),
+    (comes_to, ([],)),
+    (comes_to, ([2, 1, 1],)),
+    (comes_to, ([3, 0, 5],)),
+    (line_behind, ([], 0)),
+    (line_behind, ([3, 0, 5], 0)),
+    (line_behind, ([2, 1, 1], 0)),
+    (line_behind, ([2, 1, 1], 3)),
+    (line_behind, ([3, 0, 5], MOST)),
+    (row_count, (8,)),
+    (round_count, (8,)),
+    (row_at, (8, 3)),
+    (row_at, (0, 0)),
+    (number_of_row, ([4, 2, 2],)),
+    (number_of_row, ([],)),
+    (first_of_round, ([4, 2, 2],)),
+    (first_of_round, ([3, 3, 1, 1],)),
+    (first_of_round, ([],)),
+    (steps_of_round, ([4, 2, 2],)),
+    (round_at, (8, 1)),
+    (round_at, (0, 0)),
+    (sown_home, ([0, 1, 3], 3)),
+    (sown_home, ([1], 1)),
+    (home_yard, (0,)),
+    (home_yard, (10000,)),
+    (brought_home, ([],)),
+    (brought_home, ([0, 1, 3],)),
+    (brought_home, ([2],)),
+    (more_by_one, ([],)),
+    (more_by_one, ([0, 1, 3],)),
+    (less_by_one, ([0, 1, 3],)),
+    (less_by_one, ([1],)),
 ]
 
 REFUSED = [
@@ -87,6 +138,14 @@ REFUSED = [
     (least_way, ([1000, 0], [0, 1000])),
     (come_to, ([2, 0, 1], [1, 0])),
     (way_or_bar, ([2, 0, 1], [2, 1], [1])),
+    (who_wins, ([2, 0, 1], [1, 0])),
+    (side_by_side, ([2, 0, 1], [1], [1, 1], [0, 1])),
+    (marched, ([3, 0],)),
+    (line_behind, ([3, 1], -1)),
+    (number_of_row, ([3],)),
+    (first_of_round, ([2, 0],)),
+    (sown_home, ([0, 1, 3], 2)),
+    (less_by_one, ([2],)),
 ]
 
 
@@ -181,8 +240,9 @@ class OwnListsTest(unittest.TestCase):
     def test_what_is_told_is_made_of_the_kinds_told(self):
         for function, asked in QUESTIONS:
             with self.subTest(function=function.__name__, asked=asked):
+                kinds = (bool,) if function == is_marching else (int, str, type(None))
                 for part in parts_of(function(*asked)):
-                    self.assertIn(type(part), (int, str, type(None)))
+                    self.assertIn(type(part), kinds)
 
 
 if __name__ == "__main__":
