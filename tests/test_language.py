@@ -28,6 +28,16 @@ METHODS = set(
     "setdefault split splitlines startswith strip update upper values zfill bit_length".split()
 )
 UNDERSCORED = {"__init__", "__eq__", "__repr__", "__str__", "__len__"}
+CHANGES = set("append clear extend insert pop remove reverse setdefault update".split())
+NOT_USED = set(
+    "register mro elements open input version_info with_traceback add_note attrgetter breakpoint builtins compile "
+    "copyright credits delattr dir eval exec exit gc getattr globals hasattr help id importlib license locals "
+    "methodcaller os quit setattr super type vars sys __name__ chr".split()
+)
+KEYWORDS = {
+    "sorted": {"key", "reverse"}, "min": {"key", "default"}, "max": {"key", "default"}, "sum": {"start"},
+    "enumerate": {"start"}, "zip": {"strict"},
+}
 WORDS = re.compile(
     r"\b(type|typing|typing_extensions|enum|Enum|IntEnum|StrEnum|Flag|IntFlag|Generic|Protocol|ABC|ABCMeta|namedtuple|"
     r"NamedTuple|TypedDict|TYPE_CHECKING|abstractmethod)\b|dataclass|overload|contextmanager"
@@ -56,6 +66,64 @@ def bound_names(tree):
             yield node.asname or node.name
         elif isinstance(node, ast.Name) and isinstance(node.ctx, ast.Store):
             yield node.id
+        elif isinstance(node, ast.ExceptHandler) and node.name:
+            yield node.name
+
+
+def top_names(tree):
+    """The names that a file itself binds at its top."""
+    names = [node.name for node in tree.body if isinstance(node, (ast.FunctionDef, ast.ClassDef))]
+    return names + [node.targets[0].id for node in tree.body if isinstance(node, ast.Assign)]
+
+
+def is_plain(value, functions):
+    if isinstance(value, (ast.List, ast.Tuple)):
+        return all(is_plain(part, functions) for part in value.elts)
+    if isinstance(value, ast.Dict):
+        return all(is_plain(part, functions) for part in value.keys + value.values)
+    if isinstance(value, ast.UnaryOp):
+        return isinstance(value.op, ast.USub) and is_plain(value.operand, functions)
+    return isinstance(value, ast.Constant) or isinstance(value, ast.Name) and value.id in functions
+
+
+def is_walk(node):
+    """Whether this is a call that is to be walked on the spot."""
+    if not isinstance(node, ast.Call):
+        return False
+    if isinstance(node.func, ast.Name):
+        return node.func.id in ("zip", "enumerate", "reversed", "range")
+    return isinstance(node.func, ast.Attribute) and node.func.attr in ("items", "keys", "values")
+
+
+def walked_on_the_spot(tree):
+    """All that a loop walks, or that one of Python's own functions is handed first."""
+    found = []
+    for node in ast.walk(tree):
+        if isinstance(node, (ast.For, ast.comprehension)):
+            found.append(node.iter)
+        elif isinstance(node, ast.Call) and node.args and isinstance(node.func, ast.Name):
+            if node.func.id in ("list", "tuple", "dict", "sorted", "sum", "any", "all", "enumerate", "zip"):
+                found.append(node.args[0])
+    return found
+
+
+def walked_names(loop):
+    parts = [loop.iter]
+    if isinstance(loop.iter, ast.Call):
+        parts += loop.iter.args
+        if isinstance(loop.iter.func, ast.Attribute):
+            parts.append(loop.iter.func.value)
+    return {ast.unparse(part) for part in parts if isinstance(part, (ast.Name, ast.Attribute))}
+
+
+def changed_names(loop):
+    for node in [node for part in loop.body for node in ast.walk(part)]:
+        if isinstance(node, ast.Call) and isinstance(node.func, ast.Attribute) and node.func.attr in CHANGES:
+            yield ast.unparse(node.func.value)
+        elif isinstance(node, ast.Subscript) and not isinstance(node.ctx, ast.Load):
+            yield ast.unparse(node.value)
+        elif isinstance(node, (ast.Name, ast.Attribute)) and isinstance(node.ctx, ast.Store):
+            yield ast.unparse(node)
 
 
 class LanguageTest(unittest.TestCase):
@@ -165,6 +233,110 @@ class LanguageTest(unittest.TestCase):
             self.assertEqual(len(set(methods)), len(methods), (name, node.name))
             for part in node.body:
                 self.assertIsInstance(part, ast.FunctionDef, (name, node.name))
+
+    def test_the_top_of_a_file_is_plain(self):
+        for name, tree in trees():
+            functions = []
+            for node in tree.body[1:]:
+                self.assertIsInstance(node, (ast.ImportFrom, ast.FunctionDef, ast.ClassDef, ast.Assign), name)
+                if isinstance(node, ast.FunctionDef):
+                    functions.append(node.name)
+                if isinstance(node, ast.Assign):
+                    self.assertTrue(is_plain(node.value, functions), (name, node.lineno))
+                    parts = list(ast.walk(node.value))[1:]
+                    self.assertFalse([part for part in parts if isinstance(part, (ast.List, ast.Dict))], name)
+            imported = [alias.name for node in tree.body if isinstance(node, ast.ImportFrom) for alias in node.names]
+            bound = top_names(tree) + imported
+            self.assertEqual(len(set(bound)), len(bound), name)
+
+    def test_classes_and_imports_stand_at_the_top_alone(self):
+        for name, tree in trees():
+            inner = [node for node in ast.walk(tree) if isinstance(node, (ast.ClassDef, ast.ImportFrom))]
+            self.assertEqual(len(inner), len([node for node in inner if node in tree.body]), name)
+
+    def test_names_are_drawn_from_the_file_that_defines_them_and_are_used(self):
+        defined = {name: top_names(tree) for name, tree in trees()}
+        for name, tree in trees():
+            read = [node.id for node in ast.walk(tree) if isinstance(node, ast.Name)]
+            for node in [node for node in tree.body if isinstance(node, ast.ImportFrom)]:
+                for alias in node.names:
+                    self.assertIn(alias.name, defined[node.module.split(".")[1] + ".py"], name)
+                    self.assertIn(alias.name, read, name)
+
+    def test_what_stands_at_the_top_is_only_read(self):
+        for name, tree in trees():
+            kept = {node.targets[0].id for node in tree.body if isinstance(node, ast.Assign)}
+            for loop in [node for node in tree.body if isinstance(node, (ast.FunctionDef, ast.ClassDef))]:
+                self.assertFalse(kept & set(changed_names(loop)), name)
+
+    def test_names_that_are_not_used(self):
+        for name, tree in trees():
+            for node in ast.walk(tree):
+                if isinstance(node, ast.Name):
+                    self.assertNotIn(node.id, NOT_USED, name)
+                if isinstance(node, ast.Attribute):
+                    self.assertNotIn(node.attr, NOT_USED | {"format", "format_map"}, name)
+
+    def test_no_name_is_a_method_and_a_value(self):
+        own = {method.name for name, node in nodes(ast.ClassDef) for method in node.body}
+        values = {node.attr for name, node in nodes(ast.Attribute) if isinstance(node.ctx, ast.Store)}
+        self.assertFalse(own & values)
+        python = set().union(*[dir(kind) for kind in (str, int, list, dict, set, bytes, Exception)])
+        self.assertFalse((own - UNDERSCORED | values) & python)
+
+    def test_methods_are_called_where_they_stand(self):
+        for name, tree in trees():
+            called = [node.func for node in ast.walk(tree) if isinstance(node, ast.Call)]
+            for node in ast.walk(tree):
+                if isinstance(node, ast.Attribute) and node.attr in METHODS:
+                    self.assertIn(node, called, (name, node.lineno))
+
+    def test_errors_are_the_packages_own(self):
+        own = [node.name for node in dict(trees())["errors.py"].body if isinstance(node, ast.ClassDef)]
+        for name, node in nodes(ast.ExceptHandler):
+            self.assertIsInstance(node.type, ast.Name, name)
+            self.assertIn(node.type.id, own, name)
+        for name, node in nodes(ast.Raise):
+            self.assertIsInstance(node.exc, ast.Call, name)
+            self.assertIn(node.exc.func.id, own, name)
+
+    def test_is_stands_beside_none_true_and_false(self):
+        for name, node in nodes(ast.Compare):
+            for operator, right in zip(node.ops, node.comparators):
+                if isinstance(operator, (ast.Is, ast.IsNot)):
+                    self.assertIsInstance(right, ast.Constant, (name, node.lineno))
+                    self.assertIn(right.value, (None, True, False), (name, node.lineno))
+
+    def test_keywords_are_those_allowed(self):
+        for name, node in nodes(ast.Call):
+            for keyword in node.keywords:
+                self.assertIsInstance(node.func, ast.Name, (name, node.lineno))
+                self.assertIn(keyword.arg, KEYWORDS.get(node.func.id, ()), (name, node.lineno))
+
+    def test_walks_are_walked_on_the_spot(self):
+        for name, tree in trees():
+            spots = walked_on_the_spot(tree)
+            for node in ast.walk(tree):
+                if is_walk(node):
+                    self.assertIn(node, spots, (name, node.lineno))
+
+    def test_what_a_loop_walks_is_not_changed_in_it(self):
+        for name, node in nodes(ast.For):
+            self.assertFalse(walked_names(node) & set(changed_names(node)), (name, node.lineno))
+
+    def test_there_are_no_sets(self):
+        self.assertFalse(nodes((ast.Set, ast.SetComp)))
+        self.assertFalse([name for name, node in nodes(ast.Name) if node.id in ("set", "frozenset")])
+
+    def test_texts_hold_no_percent_sign(self):
+        for name, node in nodes(ast.Constant):
+            if isinstance(node.value, str):
+                self.assertNotIn("%", node.value, (name, node.lineno))
+
+    def test_making_an_object_gives_back_nothing(self):
+        for name, node in nodes(ast.FunctionDef):
+            if node.name == "__init__":
+                self.assertFalse([part for part in ast.walk(node) if isinstance(part, ast.Return)], name)
 
 
 if __name__ == "__main__":

@@ -5,10 +5,13 @@ import unittest
 
 from samples import MOST, NO_BOARDS
 from sowring.barred import come_to, ends_of, longest_play, way_or_bar
+from sowring.book import RingBook
 from sowring.counting import board_at, board_count, next_board, number_of, ring_count
+from sowring.desk import answers_to
 from sowring.errors import SowError
 from sowring.hands import side_by_side, who_wins, worths
 from sowring.home import brought_home, home_yard, less_by_one, more_by_one, sown_home
+from sowring.homes import again_after, first_pits, seeds_for, wanted_from
 from sowring.least import least_way
 from sowring.lines import ahead_of, comes_to, is_marching, line_behind, marched
 from sowring.marching import (
@@ -16,6 +19,7 @@ from sowring.marching import (
 )
 from sowring.ring import gone_on, sown, taken_back
 from sowring.rounds import all_rounds, one_ring_round, round_laps, round_of, standing_count
+from sowring.texts import board_text, read_board
 from sowring.turning import least_turn, own_turn, turned
 from sowring.ways import gathered, walked, way_to
 
@@ -121,6 +125,18 @@ QUESTIONS = [
     (more_by_one, ([0, 1, 3],)),
     (less_by_one, ([0, 1, 3],)),
     (less_by_one, ([1],)),
+    (first_pits, (0, 0)),
+    (first_pits, (MOST, 200)),
+    (wanted_from, (2000,)),
+    (again_after, (200,)),
+    (seeds_for, ([],)),
+    (seeds_for, ([0, 1, 3, 0],)),
+    (seeds_for, ([1, 2, 3, 4],)),
+    (read_board, ("2 0 1",)),
+    (board_text, ([2, 0, 1],)),
+    (answers_to, ("2 0 1",)),
+    (answers_to, ("2 0 1\nsow 0\nsow 0\non 0 0\nring\nends 1\nends 1\nto 2 0 1\nleast 2 0 1\nlongest 1\nxyz\n",)),
+    (answers_to, ("2 0 1\nback 0\ngather 1\nmarch 0\nmarch 0\nmarching\nmarching\nhome\nhomes\nhomes\nwins 1\n",)),
 ]
 
 REFUSED = [
@@ -146,6 +162,9 @@ REFUSED = [
     (first_of_round, ([2, 0],)),
     (sown_home, ([0, 1, 3], 2)),
     (less_by_one, ([2],)),
+    (seeds_for, ([0, 3],)),
+    (board_text, ([2],)),
+    (RingBook, ([2],)),
 ]
 
 
