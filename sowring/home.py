@@ -48,7 +48,7 @@ def brought_home(yard):
     if yard == due:
         return ("home", plan_home(yard))
     pit = first_unlike(yard, due)
-    return ("barred", pit, held_at(due, pit))
+    return ("barred", pit, due[pit - 1])
 
 
 # A pit that is passed over while it may be sown gets one seed too many, so the nearest one is sown.
@@ -71,15 +71,12 @@ def nearest_to_sow(yard):
     return pit
 
 
+# Both yards have as many seeds, so neither is the mere beginning of the other.
 def first_unlike(yard, other):
     pit = 1
-    while held_at(yard, pit) == held_at(other, pit):
+    while yard[pit - 1] == other[pit - 1]:
         pit += 1
     return pit
-
-
-def held_at(yard, pit):
-    return yard[pit - 1] if pit <= len(yard) else 0
 
 
 def check_home_yard(yard):

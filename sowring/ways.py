@@ -33,7 +33,7 @@ def gathered(board, pit):
     check_board(board)
     check_pit(board, pit)
     check_few_seeds(board)
-    return [("sow", standing[1]) for standing in gathering(board, pit)]
+    return sowings_from(gathering(board, pit))
 
 
 def check_few_seeds(board):
@@ -54,6 +54,10 @@ def gathering(board, pit):
     return standings
 
 
+def sowings_from(standings):
+    return [("sow", standing[1]) for standing in standings]
+
+
 # Any pit with seeds would do; the nearest one makes for short plans.
 def source_for(board, pit):
     for step in range(1, len(board)):
@@ -69,7 +73,7 @@ def way_to(board, other):
     check_board(other)
     check_alike(board, other)
     check_few_seeds(board)
-    plan = gathered(board, 0)
+    plan = sowings_from(gathering(board, 0))
     for standing in reversed(gathering(other, 0)):
         plan.append(("back", sow_pit(standing[0], standing[1])[1]))
     return plan

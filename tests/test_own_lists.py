@@ -60,6 +60,7 @@ QUESTIONS = [
     (one_ring_round, ([2, 0, 1], 0, 3)),
     (standing_count, (3, 4)),
     (all_rounds, (3, 4)),
+    (all_rounds, (4, 4)),
     (all_rounds, (3, 0)),
     (walked, ([2, 0, 1], [])),
     (walked, ([2, 0, 1], [("sow", 0), ("back", 2)])),
